@@ -1,0 +1,67 @@
+"""The interface: each name in its file, with its parameters, and each method in its class itself."""
+
+import importlib
+import inspect
+import unittest
+
+FUNCTIONS = {
+    "rims": {"gaps": "pins", "arc": "pins first last", "parts": "pins one other first last", "crosses": "a b c d"},
+    "tables": {"table_of": "lot", "lot_of": "pins table", "bar": "lot wishes", "odd": "lot wishes"},
+    "moves": {"moves": "lot", "is_move": "lot move", "moved": "lot move", "lowered": "pins move", "run": "lot course",
+              "is_run": "lot course goal", "crossings": "lot", "bare": "lot"},
+}
+METHODS = {
+    ("lots", "Lot"): {
+        "__init__": "pins cords=()", "between": "one other", "ends": "pin", "total": "", "__len__": "", "__iter__": "",
+        "__add__": "other", "__sub__": "other", "__mul__": "number", "__eq__": "other", "__contains__": "wishes",
+        "turned": "steps", "mirrored": "", "opened": "gap", "linked": "gap many=1", "merged": "gap", "dropped": "pin",
+        "beside": "other *gap=None",
+    },
+}
+PROPERTIES = {("lots", "Lot"): ["table"]}
+GENERATORS = [("moves", "moves")]
+
+
+def told(parameter):
+    """A parameter as it is written above."""
+    star = "*" if parameter.kind == parameter.KEYWORD_ONLY else ""
+    default = "" if parameter.default is parameter.empty else f"={parameter.default!r}"
+    return star + parameter.name + default
+
+
+def parameters(function):
+    return " ".join(told(parameter) for parameter in inspect.signature(function).parameters.values())
+
+
+class Interface(unittest.TestCase):
+
+    def test_functions(self):
+        for file, functions in FUNCTIONS.items():
+            module = importlib.import_module("rimcords." + file)
+            for name, due in functions.items():
+                with self.subTest(file=file, name=name):
+                    function = getattr(module, name)
+                    self.assertEqual(module.__name__, function.__module__)
+                    self.assertEqual(due, parameters(function))
+
+    def test_methods(self):
+        for (file, name), methods in METHODS.items():
+            found = getattr(importlib.import_module("rimcords." + file), name)
+            self.assertEqual("rimcords." + file, found.__module__)
+            for method, due in methods.items():
+                with self.subTest(file=file, method=method):
+                    self.assertIn(method, vars(found))
+                    self.assertEqual(("self " + due).strip(), parameters(vars(found)[method]))
+
+    def test_properties(self):
+        for (file, name), properties in PROPERTIES.items():
+            found = getattr(importlib.import_module("rimcords." + file), name)
+            for word in properties:
+                self.assertIsInstance(vars(found)[word], property)
+
+    def test_generators(self):
+        for file, name in GENERATORS:
+            place = importlib.import_module("rimcords." + file)
+            for word in name.split("."):
+                place = getattr(place, word)
+            self.assertTrue(inspect.isgeneratorfunction(place))
