@@ -6,10 +6,8 @@ class RimError(ValueError):
 
 
 def _settled(value):
-    """A list as a tuple, at every level, so that a later change of the list does not reach the error."""
-    if isinstance(value, (list, tuple)):
-        return tuple([_settled(item) for item in value])
-    return value
+    """A list as a tuple, so that a later change of the list does not reach the error."""
+    return tuple(value) if isinstance(value, list) else value
 
 
 class BadPins(RimError):

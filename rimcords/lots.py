@@ -28,7 +28,7 @@ class Lot:
     def ends(self, pin):
         """The number of cord ends at a pin."""
         check_pin(self.pins, pin)
-        return sum([many for a, b, many in self.cords if a == pin or b == pin])
+        return ends_at_pins(self.pins, self.cords)[pin]
 
     def total(self):
         """The number of all cords."""

@@ -9,6 +9,11 @@ FUNCTIONS = {
     "tables": {"table_of": "lot", "lot_of": "pins table", "bar": "lot wishes", "odd": "lot wishes"},
     "moves": {"moves": "lot", "is_move": "lot move", "moved": "lot move", "lowered": "pins move", "run": "lot course",
               "is_run": "lot course goal", "crossings": "lot", "bare": "lot"},
+    "reaching": {"reach": "lot wishes"},
+    "belows": {"below": "lot"},
+    "fences": {"is_fence": "board first last steps", "fence_cost": "board steps", "prices": "board gap",
+               "is_price_row": "board row", "fence": "board first last", "fence_table": "board",
+               "cords_by_fences": "board"},
 }
 METHODS = {
     ("lots", "Lot"): {
@@ -17,9 +22,19 @@ METHODS = {
         "turned": "steps", "mirrored": "", "opened": "gap", "linked": "gap many=1", "merged": "gap", "dropped": "pin",
         "beside": "other *gap=None",
     },
+    ("boards", "Board"): {
+        "__init__": "pins turns widths", "__eq__": "other", "land_at": "item", "joint_of": "end", "ends": "joint",
+        "odd_joints": "", "__mul__": "number", "widened": "track by", "cut": "track", "opened": "gap",
+        "linked": "gap many=1", "merged": "gap", "dropped": "pin", "beside": "other *gap=None", "turned": "steps",
+        "mirrored": "",
+    },
+    ("courses", "Course"): {
+        "__init__": "deeds=()", "__call__": "start", "__add__": "other", "__len__": "", "__iter__": "",
+        "__eq__": "other", "stages": "start",
+    },
 }
-PROPERTIES = {("lots", "Lot"): ["table"]}
-GENERATORS = [("moves", "moves")]
+PROPERTIES = {("lots", "Lot"): ["table"], ("boards", "Board"): ["lands", "form"]}
+GENERATORS = [("moves", "moves"), ("belows", "below"), ("courses", "Course.stages")]
 
 
 def told(parameter):
