@@ -3,7 +3,7 @@
 Nothing here knows the class of lots, so that the class can use it.
 """
 
-from rimcords.errors import BadCord
+from rimcords.errors import BadCord, Barred
 from rimcords.kinds import is_below, is_sequence, is_whole
 from rimcords.rims import gaps
 
@@ -100,6 +100,14 @@ def first_bar(pins, held, wished):
             if wished[i][j] > held[i][j]:
                 return (i, j)
     return None
+
+
+def check_bar(pins, held, wished):
+    """Nowhere may the table `wished` be greater than the table `held`."""
+    pair = first_bar(pins, held, wished)
+    if pair is not None:
+        first, last = pair
+        raise Barred(first, last, held[first][last], wished[first][last])
 
 
 def odd_pins(ends, wished):

@@ -1,9 +1,9 @@
 """Reaching a lot from another one by moves."""
 
-from rimcords.counts import cord_grid
-from rimcords.errors import Barred, OddEnds
+from rimcords.counts import check_bar, cord_grid
+from rimcords.errors import OddEnds
 from rimcords.kinds import check_like
-from rimcords.tables import bar, odd, table_of
+from rimcords.tables import odd, table_of
 
 
 def reach(lot, wishes):
@@ -12,10 +12,7 @@ def reach(lot, wishes):
     pins = odd(lot, wishes)
     if pins:
         raise OddEnds(pins)
-    pair = bar(lot, wishes)
-    if pair is not None:
-        first, last = pair
-        raise Barred(first, last, table_of(lot)[first][last], table_of(wishes)[first][last])
+    check_bar(lot.pins, table_of(lot), table_of(wishes))
     descent = Descent(lot, wishes)
     while descent.fresh:
         descent.use_up(descent.fresh.pop())

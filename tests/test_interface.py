@@ -14,6 +14,11 @@ FUNCTIONS = {
     "fences": {"is_fence": "board first last steps", "fence_cost": "board steps", "prices": "board gap",
                "is_price_row": "board row", "fence": "board first last", "fence_table": "board",
                "cords_by_fences": "board"},
+    "building": {"course_of": "board"},
+    "cords": {"cords": "board"},
+    "straights": {"straight": "lot"},
+    "wires": {"wire_joints": "board wire", "are_wires": "board wishes wires", "load": "board wires"},
+    "laying": {"own_wires": "board", "lay": "board wishes", "lay_halves": "board wishes"},
 }
 METHODS = {
     ("lots", "Lot"): {
