@@ -121,18 +121,22 @@ def renamed(cords, names):
 def table_without(pins, table, pin):
     """The table that is left when a pin is dropped, on a rim with at least two pins.
 
-    The gaps before and behind the pin become one, so that a way may lead in at one of them and out at the other.
+    The gaps before and behind the pin become one, so that a way may lead in at one of them and out at the other. The
+    joined gap keeps the place of the gap before the pin.
     """
     left = (pin - 1) % pins
-    groups = [[gap] for gap in range(pins) if gap != left and gap != pin]
-    place = left if pin > 0 else pins - 2
-    groups = groups[:place] + [[left, pin]] + groups[place:]
-    return [[least_past(table, ways, others, left, pin) for others in groups] for ways in groups]
+    rows = [row_without(row, table, left, pin) for row in table]
+    joined = [min(pair) for pair in zip(rows[left], rows[pin])]
+    return [joined if gap == left else row for gap, row in enumerate(rows) if gap != pin]
 
 
-def least_past(table, ways, others, left, right):
-    """The least number between a gap of `ways` and one of `others`, with the gaps `left` and `right` joined."""
-    return min([
-        min(table[i][j], table[i][left] + table[right][j], table[i][right] + table[left][j])
-        for i in ways for j in others
-    ])
+def row_without(row, table, left, right):
+    """The least numbers from one gap to all others, when the gaps `left` and `right` are joined to one."""
+    to_left = row[left]
+    to_right = row[right]
+    least = [
+        min(number, to_left + behind, to_right + before)
+        for number, before, behind in zip(row, table[left], table[right])
+    ]
+    joined = min(to_left, to_right)
+    return [joined if gap == left else number for gap, number in enumerate(least) if gap != right]
