@@ -92,7 +92,7 @@ class Takedown:
             at = place + 1
         else:
             self.turns[joint] = turn
-            at = place if place > 0 else len(self.rim)
+            at = place
         self.rim.insert(at, joint)
         del self.inner[joint]
         self.deeds.append(("drop", at))

@@ -1,11 +1,10 @@
 """Fences: ways from gap to gap across the tracks, and what they cost."""
 
-from heapq import heappop, heappush
-
 from rimcords.errors import BadItem, OddJoint
 from rimcords.kinds import check_gap, is_below, is_sequence, is_whole
 from rimcords.rims import gaps
 from rimcords.tables import lot_of
+from rimcords.walks import least_costs, steps_to
 
 
 def land_of_gap(board, gap):
@@ -50,33 +49,14 @@ def fence_cost(board, steps):
     return cost
 
 
-def least_costs(board, gap):
-    """The least cost from the gap to each land, and the last step on a cheapest way there (None at its start)."""
-    start = land_of_gap(board, gap)
-    costs = {start: 0}
-    steps = {start: None}
-    done = {}
-    queue = [(0, start)]
-    while queue:
-        cost, land = heappop(queue)
-        if land not in done:
-            done[land] = True
-            for end in board.lands[land]:
-                # The items of a land below 0 are its gaps.
-                if end >= 0:
-                    reached = board.land_at(end ^ 1)
-                    price = cost + board.widths[end // 2]
-                    if reached not in costs or price < costs[reached]:
-                        costs[reached] = price
-                        steps[reached] = end
-                        heappush(queue, (price, reached))
-    return costs, steps
+def lands_of_ends(board):
+    return [board.land_at(end) for end in range(2 * len(board.widths))]
 
 
 def prices(board, gap):
     """The least cost of the crossings that lead from the land of the gap to each land."""
     check_gap(board.pins, gap)
-    costs, _ = least_costs(board, gap)
+    costs, _ = least_costs(board.lands, lands_of_ends(board), board.widths, land_of_gap(board, gap))
     return tuple([costs[land] for land in range(len(board.lands))])
 
 
@@ -96,13 +76,9 @@ def is_price_row(board, row):
 def fence(board, first, last):
     """A fence of the least cost from one gap to another one."""
     check_gaps(board, first, last)
-    _, steps = least_costs(board, first)
-    found = []
-    step = steps[land_of_gap(board, last)]
-    while step is not None:
-        found.append(step)
-        step = steps[board.land_at(step)]
-    return tuple(found[::-1])
+    homes = lands_of_ends(board)
+    _, steps = least_costs(board.lands, homes, board.widths, land_of_gap(board, first))
+    return steps_to(steps, homes, land_of_gap(board, last))
 
 
 def fence_table(board):

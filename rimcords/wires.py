@@ -34,8 +34,13 @@ def are_wires(board, wishes, wires):
         for wire in item:
             if not is_wire(board, wire) or wire_joints(board, wire) != (a, b):
                 return False
-    for carried, width in zip(load(board, wires), board.widths):
-        if carried > width:
+    return fits_widths(board, wires)
+
+
+def fits_widths(board, wires):
+    """Whether all steps together go along, or across, no track more often than its width says."""
+    for many, width in zip(load(board, wires), board.widths):
+        if many > width:
             return False
     return True
 

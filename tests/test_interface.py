@@ -19,6 +19,12 @@ FUNCTIONS = {
     "straights": {"straight": "lot"},
     "wires": {"wire_joints": "board wire", "are_wires": "board wishes wires", "load": "board wires"},
     "laying": {"own_wires": "board", "lay": "board wishes", "lay_halves": "board wishes"},
+    "oddends": {"pairings": "pins", "lay_some": "board wishes", "refusals": "board wishes",
+                "are_refusals": "board wishes items"},
+    "likeness": {"alike": "one two", "never_worse": "one two", "parting": "one two"},
+    "duals": {"dual": "board", "distance": "board one other", "distances": "board", "way": "board one other",
+              "odd_lands": "board"},
+    "fencings": {"fences_laid": "board", "are_fences_laid": "board lot fences"},
 }
 METHODS = {
     ("lots", "Lot"): {
@@ -37,9 +43,14 @@ METHODS = {
         "__init__": "deeds=()", "__call__": "start", "__add__": "other", "__len__": "", "__iter__": "",
         "__eq__": "other", "stages": "start",
     },
+    ("rows", "Row"): {
+        "__init__": "top letters=()", "__len__": "", "__eq__": "other", "__rshift__": "other", "__pow__": "number",
+        "shifted": "left right", "flipped": "", "crossings": "",
+    },
 }
-PROPERTIES = {("lots", "Lot"): ["table"], ("boards", "Board"): ["lands", "form"]}
-GENERATORS = [("moves", "moves"), ("belows", "below"), ("courses", "Course.stages")]
+PROPERTIES = {("lots", "Lot"): ["table"], ("boards", "Board"): ["lands", "form"],
+              ("rows", "Row"): ["lanes", "bottom", "pairing"]}
+GENERATORS = [("moves", "moves"), ("belows", "below"), ("courses", "Course.stages"), ("oddends", "pairings")]
 
 
 def told(parameter):

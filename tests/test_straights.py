@@ -35,7 +35,8 @@ class Straight(unittest.TestCase):
 
     def test_few_cords(self):
         self.assertEqual(Board(2, ((0,), (1,)), (5,)), self.drawn(Lot(2, [(0, 1, 5)])))
-        self.assertEqual(Board(3, ((0, 4), (2, 1), (5, 3)), (1, 3, 2)), self.drawn(Lot(3, [(0, 1, 1), (0, 2, 2), (1, 2, 3)])))
+        self.assertEqual(Board(3, ((0, 4), (2, 1), (5, 3)), (1, 3, 2)),
+                         self.drawn(Lot(3, [(0, 1, 1), (0, 2, 2), (1, 2, 3)])))
         self.assertEqual(Board(4, ((0,), (2,), (4,), (6,), (1, 3, 5, 7)), (2, 3, 2, 3)),
                          self.drawn(Lot(4, [(0, 2, 2), (1, 3, 3)])))
 
