@@ -27,6 +27,15 @@ def lot_of_mates(mates):
     return Lot(len(mates), [(pin, mate, 1) for pin, mate in enumerate(mates) if pin < mate])
 
 
+def mates_of_lot(lot):
+    """The mates of the pins of a lot with exactly one cord end at each pin."""
+    mates = [0] * lot.pins
+    for a, b, _ in lot.cords:
+        mates[a] = b
+        mates[b] = a
+    return mates
+
+
 def mates_crossed(mates, left):
     """The mates when two strands cross at the lower ends `left - 1` and `left`, unless they have crossed already."""
     right = left - 1
@@ -51,9 +60,4 @@ def mates_begun(mates, first):
 def mates_joined(mates, right):
     """The mates when the strands at the lower ends `right` and `right + 1` are joined there."""
     # The joined cord may cross another one twice, so this takes more than to join the two mates.
-    lot = lot_of_mates(mates).merged(right).dropped(right)
-    changed = [0] * lot.pins
-    for a, b, _ in lot.cords:
-        changed[a] = b
-        changed[b] = a
-    return changed
+    return mates_of_lot(lot_of_mates(mates).merged(right).dropped(right))

@@ -25,6 +25,14 @@ FUNCTIONS = {
     "duals": {"dual": "board", "distance": "board one other", "distances": "board", "way": "board one other",
               "odd_lands": "board"},
     "fencings": {"fences_laid": "board", "are_fences_laid": "board lot fences"},
+    "rowboards": {"board_of": "row"},
+    "pairing": {"joined": "first second lanes", "alike_rows": "one two", "tight": "row",
+                "row_of": "top bottom pairing", "rest": "row", "all_pairings": "top bottom"},
+    "customs": {"most_across": "custom first last", "busiest": "custom first last",
+                "breach": "board custom *spare=0"},
+    "shares": {"survives": "board wishes lost", "loss": "board wishes lost", "room": "board wishes one other",
+               "share": "board wishes", "share_wires": "board wishes"},
+    "holes": {"least_fillers": "pins course wishes"},
 }
 METHODS = {
     ("lots", "Lot"): {
@@ -47,10 +55,12 @@ METHODS = {
         "__init__": "top letters=()", "__len__": "", "__eq__": "other", "__rshift__": "other", "__pow__": "number",
         "shifted": "left right", "flipped": "", "crossings": "",
     },
+    ("customs", "Custom"): {"__init__": "pins caps barred=()", "__contains__": "wishes"},
 }
 PROPERTIES = {("lots", "Lot"): ["table"], ("boards", "Board"): ["lands", "form"],
               ("rows", "Row"): ["lanes", "bottom", "pairing"]}
-GENERATORS = [("moves", "moves"), ("belows", "below"), ("courses", "Course.stages"), ("oddends", "pairings")]
+GENERATORS = [("moves", "moves"), ("belows", "below"), ("courses", "Course.stages"), ("oddends", "pairings"),
+              ("pairing", "all_pairings")]
 
 
 def told(parameter):
