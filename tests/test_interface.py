@@ -33,6 +33,11 @@ FUNCTIONS = {
     "shares": {"survives": "board wishes lost", "loss": "board wishes lost", "room": "board wishes one other",
                "share": "board wishes", "share_wires": "board wishes"},
     "holes": {"least_fillers": "pins course wishes"},
+    "desks": {"perform": "desk steps"},
+    "lotnotes": {"format_lot": "lot", "parse_lot": "text"},
+    "boardnotes": {"format_board": "board", "parse_board": "text"},
+    "coursenotes": {"format_course": "course", "parse_course": "text"},
+    "rownotes": {"format_row": "row", "parse_row": "text"},
 }
 METHODS = {
     ("lots", "Lot"): {
@@ -56,6 +61,10 @@ METHODS = {
         "shifted": "left right", "flipped": "", "crossings": "",
     },
     ("customs", "Custom"): {"__init__": "pins caps barred=()", "__contains__": "wishes"},
+    ("desks", "Desk"): {
+        "__init__": "board", "wish": "one other many=1", "unwish": "one other many=1", "widen": "track by",
+        "undo": "", "trial": "", "room": "one other", "wires": "",
+    },
 }
 PROPERTIES = {("lots", "Lot"): ["table"], ("boards", "Board"): ["lands", "form"],
               ("rows", "Row"): ["lanes", "bottom", "pairing"]}
