@@ -181,6 +181,14 @@ class Language(unittest.TestCase):
                 for tree in self.trees.values():
                     self.assertNotIn(node.name, bound_names(tree))
 
+    def test_exits(self):
+        for _, node in self.each(ast.FunctionDef):
+            if node.name == "__exit__":
+                self.assertEqual(["self", "kind", "value", "trace"], [item.arg for item in node.args.args])
+                for item in node.body:
+                    self.assertIsInstance(item, ast.Assign)
+                    self.assertRegex(ast.unparse(item), r"^(kept = self\.kept|self\.[a-z]+ = kept\.[a-z]+)$")
+
     def test_nested_functions_and_lambdas(self):
         for _, node in self.each(ast.FunctionDef):
             inner = [item for item in ast.walk(node) if isinstance(item, (ast.FunctionDef, ast.Lambda)) and item != node]
